@@ -1,0 +1,1 @@
+"""Loadanywhere: programs whose words are sums of places that nobody knows yet."""

@@ -1,0 +1,79 @@
+"""[1] to [3]: what everything keeps to, and the interface as it is written."""
+
+import importlib
+import inspect
+import unittest
+
+from loadanywhere.kinds import are_unlike_names, is_integer, is_name, read_address
+from tests.helpers import any_objects
+
+INTERFACE = {
+    "sums": ["sum_of(thing)", "plus(one, other)", "minus(one, other)", "times(one, number)", "put_in(one, worths)",
+             "unknowns(one)", "address_of(one)"],
+    "words": ["coded(code, x=0, y=0, d=0)", "fields(word)", "instruction(word)"],
+    "images": ["Image(pieces, start): pieces(), word(p, k), __len__(), __eq__(other)", "laid(image, places)"],
+    "plainruns": ["played(image, places, answers)",
+                  "Machine(image, places): give(answers), undo(), again(), registers(), at(), words(), events()"],
+    "freetold": ["free_events(image, answers)", "free_state(image, answers)"],
+    "greats": ["great_counts(image, great)", "great_registers(image, great, worths, modulo)"],
+    "units": ["Unit(pieces, told=None): pieces(), told(), wanted(), word(p, k), __len__(), __eq__(other)",
+              "bound(unit)", "together(one, other)", "with_names(unit, worths)",
+              "renamed(unit, pieces=None, names=None)", "image_of(unit, name)"],
+    "joins": ["merged(unit, some, p)", "pulled(unit, p, k, q)"],
+    "bases": ["base_of(rows, many)"],
+    "relocating": ["relocations(unit)", "plain(unit)", "mended(unit, rows)", "shift(image, moves)",
+                   "hangs_on(image, p)", "free_moves(image)", "tied(image)", "misfits(image, places)",
+                   "always_near(image)", "fitting(image, places)"],
+    "packs": ["packed(offsets)", "unpacked(stretches)", "packed_relocations(unit)"],
+    "dumps": ["Dumps(pieces, rows): rows(), addresses(), __eq__(other)", "only_sum(dumps, p, k)",
+              "known_at(dumps, p, k)", "settles(places)", "sure_parts(places)", "more_dumps(places)",
+              "least_settling(places)", "told_back(dumps)"],
+    "modules": ["Module(name, unit, needs=(), weak=(), late=()): __eq__(other)",
+                "Shelf(modules): names(), module(name), __eq__(other)", "group_of(shelf, name)",
+                "beginnings(shelf, name)", "is_beginning(shelf, name, thing)"],
+}
+
+
+def parameters_of(thing):
+    """The parameters of a function or class as they are written in the interface, self aside."""
+    text = str(inspect.signature(thing))
+    return text.replace("(self, ", "(").replace("(self)", "()")
+
+
+class Interface(unittest.TestCase):
+    def test_names_and_parameters(self):
+        for file, lines in INTERFACE.items():
+            module = importlib.import_module("loadanywhere." + file)
+            for line in lines:
+                head, _, rest = line.partition(": ")
+                name, bracket, parameters = head.partition("(")
+                thing = getattr(module, name)
+                self.assertEqual(thing.__module__, module.__name__)
+                self.assertEqual(parameters_of(thing), bracket + parameters)
+                for method in rest.replace("), ", ");").split(";") if rest else []:
+                    called, bracket, parameters = method.partition("(")
+                    self.assertIn(called, vars(thing))
+                    self.assertEqual(parameters_of(vars(thing)[called]), bracket + parameters)
+
+
+class Kinds(unittest.TestCase):
+    def test_integers(self):
+        for thing in any_objects():
+            self.assertEqual(is_integer(thing), thing.__class__ is int)
+
+    def test_names(self):
+        for name in ("a", "z", "abcdefgh"):
+            self.assertTrue(is_name(name))
+        for thing in any_objects() + ["abcdefghi", "a b", "a_", "\u00e9", "aB", "1", " "]:
+            self.assertEqual(is_name(thing), thing == "a")
+
+    def test_addresses(self):
+        self.assertEqual(read_address(["a", -5]), ("a", -5))
+        for thing in (("a", True), ("A", 0), ("a",), ("a", 0, 0), "a0", None, {"a": 0}):
+            self.assertIsNone(read_address(thing))
+
+    def test_unlike_names(self):
+        self.assertTrue(are_unlike_names(()))
+        self.assertTrue(are_unlike_names(["a", "b"]))
+        for thing in ("ab", {"a": 1}, ["a", "a"], ["a", 1], ["a", []], None):
+            self.assertFalse(are_unlike_names(thing))
