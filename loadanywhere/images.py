@@ -1,8 +1,8 @@
 """Images: pieces that lie anywhere, and the address at which runs begin."""
 
-from loadanywhere.errors import BadStart, BadWord, NoPlace, NoWord, Over
+from loadanywhere.errors import BadStart, BadWord, NoPlace, Over
 from loadanywhere.kinds import is_integer, read_address
-from loadanywhere.pieces import kinds_of, read_pieces, words_of
+from loadanywhere.pieces import kinds_of, read_pieces, word_at, words_of
 from loadanywhere.sums import worth_at
 
 
@@ -31,10 +31,7 @@ class Image:
         return list(self.parts)
 
     def word(self, p, k):
-        address = read_address((p, k))
-        if address is None or address not in self.sums:
-            raise NoWord(p, k)
-        return self.sums[address]
+        return word_at(self.sums, p, k)
 
     def __len__(self):
         return len(self.sums)

@@ -1,7 +1,7 @@
 """Lists of pieces, as images and units are made of them."""
 
-from loadanywhere.errors import BadPiece, NoPiece
-from loadanywhere.kinds import is_name, is_row, is_row_of
+from loadanywhere.errors import BadPiece, NoPiece, NoWord
+from loadanywhere.kinds import is_name, is_row, is_row_of, read_address
 from loadanywhere.sums import read_sum
 
 
@@ -36,6 +36,14 @@ def read_pieces(pieces):
 def words_of(pieces):
     """The dict from all addresses, by pieces, to their words."""
     return {(p, k): word for p, _, words in pieces for k, word in enumerate(words)}
+
+
+def word_at(sums, p, k):
+    """The word at an address, of the dict of all; NoWord for any objects that are no address of one."""
+    address = read_address((p, k))
+    if address is None or address not in sums:
+        raise NoWord(p, k)
+    return sums[address]
 
 
 def kinds_of(pieces):

@@ -45,7 +45,7 @@ class Span:
     def rest(self, row):
         """What is left of a row when what the span has of it is taken away: nothing but 0 if it is in it."""
         left = without_divisor(row)
-        for column in sorted(self.steps):
+        for column in sorted(list(self.steps)):
             left = cleared(left, self.steps[column], column)
         return left
 
@@ -66,7 +66,7 @@ class Span:
 
     def base(self):
         """The rows in their one form: where one begins all others have 0."""
-        columns = sorted(self.steps)
+        columns = sorted(list(self.steps))
         found = []
         for column in reversed(columns):
             row = self.steps[column]

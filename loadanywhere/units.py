@@ -1,11 +1,11 @@
 """Units: what stands between text and image, with names that are told and names that are wanted."""
 
 from loadanywhere.errors import (
-    BadTold, BadWord, BadWorths, NoName, NoPiece, NoWord, SameName, SamePiece, Taken, Unbound,
+    BadTold, BadWord, BadWorths, NoName, NoPiece, SameName, SamePiece, Taken, Unbound,
 )
 from loadanywhere.images import Image
 from loadanywhere.kinds import is_name, read_address
-from loadanywhere.pieces import kinds_of, read_pieces, words_of
+from loadanywhere.pieces import kinds_of, read_pieces, word_at, words_of
 from loadanywhere.sums import read_sum, sum_at, with_worths
 
 
@@ -36,7 +36,7 @@ def wanted_in(sums, told):
         for (kind, of), _ in word[1]:
             if kind == "name" and of not in told:
                 found[of] = True
-    return sorted(found)
+    return sorted(list(found))
 
 
 class Unit:
@@ -62,10 +62,7 @@ class Unit:
         return list(self.lacking)
 
     def word(self, p, k):
-        address = read_address((p, k))
-        if address is None or address not in self.sums:
-            raise NoWord(p, k)
-        return self.sums[address]
+        return word_at(self.sums, p, k)
 
     def __len__(self):
         return len(self.sums)

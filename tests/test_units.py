@@ -6,9 +6,12 @@ import unittest
 from loadanywhere.errors import (
     BadPiece, BadStart, BadTold, BadWord, BadWorths, NoName, NoPiece, NoWord, SameName, SamePiece, Taken, Unbound,
 )
+from loadanywhere.freetold import free_events
 from loadanywhere.images import Image
+from loadanywhere.plainruns import played
 from loadanywhere.units import Unit, bound, image_of, renamed, together, with_names
 from tests.helpers import Raising, any_objects, as_lists, as_tuples, at, is_sum_at_sight, named
+from tests.naive import random_image, random_placing, seeded, steady_image, worth
 
 PIECES = [("a", "code", [0, named("lib", 4), (1, [(("name", "tab"), 2), (("piece", "a"), -1)])]),
           ("b", "data", [at("a", 9), named("x")]), ("e", "data", [])]
@@ -202,3 +205,38 @@ class Telling(unittest.TestCase, Raising):
         third = bound(together(renamed(one, {"a": "z"}, {"t": "s", "s": "t"}), renamed(other, None, {"t": "s", "s": "t"})))
         self.assertEqual(first, second)
         self.assertEqual(second, third)
+
+
+def by_names(image):
+    """A unit that has names for the places of pieces in all words, and tells them, one word behind each place."""
+    told = {"n" + p: (p, len(words) - 1) for p, _, words in image.pieces()}
+    pieces = []
+    for p, kind, words in image.pieces():
+        sums = []
+        for number, parts in words:
+            names = [(("name", "n" + of), multiple) for (_, of), multiple in parts]
+            sums.append((number - sum(multiple * told["n" + of][1] for (_, of), multiple in parts), names))
+        pieces.append((p, kind, sums))
+    return Unit(pieces, {**told, "begin": image.first})
+
+
+class ImagesOfUnits(unittest.TestCase):
+    def test_runs_of_images_that_come_of_units(self):
+        for seed in range(60):
+            rng = seeded(seed)
+            image = random_image(rng) if seed % 2 else steady_image(rng, 8)
+            found = image_of(by_names(image), "begin")
+            self.assertEqual(found, image)
+            answers = [rng.random() < 0.5 for _ in range(6)]
+            told = [event for event in free_events(found, answers) if event[0] in ("ask", "take", "tell")]
+            places = random_placing(rng, found)
+            worths = {("piece", p): place for p, place in places.items()}
+            worths.update({("in", k): 3 * k for k in range(1, len(told) + 1)})
+            takes = 0
+            wanted, handed = [], []
+            for event in told:
+                takes += event[0] == "take"
+                full = ("take", 3 * takes) if event[0] == "take" else event
+                wanted.append(("tell", worth(event[1], worths)) if event[0] == "tell" else full)
+                handed += [full[1]] if full[0] != "tell" else []
+            self.assertEqual(played(found, places, handed)[:len(wanted)], wanted)
