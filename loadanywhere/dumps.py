@@ -72,12 +72,12 @@ def solver_of(rows):
 
 
 def dumps_solver(dumps):
-    return solver_of([places for places, _ in dumps.rows()])
+    return solver_of([places for places, _ in dumps.stood])
 
 
 def fitting_row(dumps, solver, address):
     """The number and multiples of a sum that fits at an address, or None."""
-    return solver.solved([words[address] for _, words in dumps.rows()])
+    return solver.solved([words[address] for _, words in dumps.stood])
 
 
 def sure_row(dumps, p, k):

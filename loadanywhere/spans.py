@@ -49,17 +49,11 @@ class Span:
             left = cleared(left, self.steps[column], column)
         return left
 
-    def holds(self, row):
-        return first_in(self.rest(row)) == len(row)
-
     def put(self, row):
-        """Puts a row in; tells whether the span has more dimensions then."""
         left = self.rest(row)
         column = first_in(left)
-        if column == len(left):
-            return False
-        self.steps[column] = left
-        return True
+        if column < len(left):
+            self.steps[column] = left
 
     def rank(self):
         return len(self.steps)

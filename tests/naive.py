@@ -221,7 +221,7 @@ def random_image(rng):
                 words.append((rng.randint(0, 5), [(("piece", rng.choice(names)), 1)]))
         pieces.append((p, kind, words))
     rng.shuffle(pieces)
-    return Image(pieces, ("a", 0))
+    return Image(pieces, ("a", rng.choice([0, 0, 1, 2])))
 
 
 def random_placing(rng, image):

@@ -82,6 +82,11 @@ class Values(unittest.TestCase):
         self.assertEqual(events([coded(HERE, 1), coded(TELL, 1), 0]), [("tell", at("a")), ("stop",)])
 
 
+    def test_begins_at_the_start(self):
+        image = Image([("d", "data", [1]), ("a", "code", [17, 17, coded(HERE, 1), coded(TELL, 1), 0])], ("a", 2))
+        self.assertEqual(free_events(image, []), [("tell", at("a", 2)), ("stop",)])
+
+
 class Lost(unittest.TestCase):
     def test_loads_and_stores(self):
         for word in (coded(LOAD, 2, 1), coded(STORE, 2, 1)):

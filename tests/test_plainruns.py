@@ -84,6 +84,12 @@ class Instructions(unittest.TestCase):
                          [("stop",)])
 
 
+    def test_begins_at_the_start(self):
+        image = Image([("d", "data", [1]), ("a", "code", [17, 17, coded(HERE, 1), coded(TELL, 1), 0])], ("a", 2))
+        self.assertEqual(played(image, {"a": 40, "d": 0}, []), [("tell", 42), ("stop",)])
+        self.assertEqual(Machine(image, {"a": 40, "d": 0}).at(), 42)
+
+
 class Ends(unittest.TestCase):
     def test_falls_where_it_goes_on(self):
         self.assertEqual(run([coded(COPY)]), [("fall", 101)])
