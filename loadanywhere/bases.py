@@ -2,7 +2,7 @@
 
 from loadanywhere.errors import BadVector
 from loadanywhere.kinds import is_integer, is_row, is_row_of
-from loadanywhere.spans import Span
+from loadanywhere.spans import dense, span_of, sparse
 
 
 def base_of(rows, many):
@@ -11,7 +11,5 @@ def base_of(rows, many):
     for index, row in enumerate(rows):
         if not is_row_of(row, many) or not all([is_integer(number) for number in row]):
             raise BadVector(index)
-    span = Span()
-    for row in rows:
-        span.put(row)
-    return span.base()
+    span = span_of([sparse(row) for row in rows])
+    return tuple([dense(row, many) for row in span.base()])

@@ -3,7 +3,7 @@
 from loadanywhere.errors import BadDump, BadPieces, BadPlacing, Gap, NoSum, NoWord, Open
 from loadanywhere.kinds import is_integer, is_name, is_row, is_row_of, read_address
 from loadanywhere.solving import Solver
-from loadanywhere.spans import Span
+from loadanywhere.spans import span_of, sparse
 from loadanywhere.sums import one_form
 
 
@@ -137,15 +137,8 @@ def more_dumps(places):
     return len(solver_of(read_placings(places)).kernel)
 
 
-def span_of(rows):
-    span = Span()
-    for row in rows:
-        span.put(row)
-    return span
-
-
 def least_settling(places):
-    rows = [[1] + list(placing.values()) for placing in read_placings(places)]
+    rows = [sparse([1] + list(placing.values())) for placing in read_placings(places)]
     rank = span_of(rows).rank()
     lots = [()]
     for _ in range(rank):

@@ -1,5 +1,6 @@
 """The numbers of free runs: as sums, as nothing at all, as residues, or as rows of what was held."""
 
+from loadanywhere.spans import with_row
 from loadanywhere.sums import one_form, worth_at
 
 
@@ -40,6 +41,22 @@ class NoNumbers:
 
     def shown(self, number):
         return None
+
+
+class Multiples:
+    """Numbers are dicts from the pieces to the multiples of their places, other than 0."""
+
+    def constant(self, one):
+        return {of: multiple for (_, of), multiple in one[1]}
+
+    def handed(self, k):
+        return {}
+
+    def added(self, one, other, many):
+        return with_row(one, other, many)
+
+    def shown(self, number):
+        return number
 
 
 class Residues:

@@ -46,18 +46,18 @@ def free_step(sums, here, numbers):
 
 
 class Program:
-    """An image made ready for free runs with numbers of one kind."""
+    """Pieces made ready for free runs that begin at first, with numbers of one kind."""
 
-    def __init__(self, image, numbers):
+    def __init__(self, pieces, first, numbers):
         self.numbers = numbers
-        self.first = image.first
+        self.first = first
         self.steps = {}
         self.fixed = {}
         self.wheres = {}
         zero = ("number", numbers.constant((0, ())))
         self.begin = [zero] * REGISTERS
-        sums = words_of(image.pieces())
-        for p, kind, words in image.pieces():
+        sums = words_of(pieces)
+        for p, kind, words in pieces:
             for k, word in enumerate(words):
                 if kind == "code":
                     self.steps[(p, k)] = free_step(sums, (p, k), numbers)
@@ -65,6 +65,10 @@ class Program:
                 else:
                     self.wheres[(p, k)] = len(self.begin)
                     self.begin.append(value_in(word, numbers))
+
+
+def program_of(image, numbers):
+    return Program(image.pieces(), image.first, numbers)
 
 
 def go_on(run, value):
@@ -163,6 +167,13 @@ class FreeRun:
         self.spot = program.first
         self.held = list(program.begin)
         self.takes = 0
+
+    def copied(self):
+        other = FreeRun(self.program)
+        other.spot = self.spot
+        other.held = list(self.held)
+        other.takes = self.takes
+        return other
 
     def step(self):
         return self.program.steps.get(self.spot)

@@ -3,7 +3,7 @@
 from loadanywhere.errors import BadGreat, BadNumber, BadWorths
 from loadanywhere.freeled import Led
 from loadanywhere.freenumbers import NoNumbers, ONE, Residues, ResidueRows
-from loadanywhere.freeruns import REGISTERS, FreeRun, Program
+from loadanywhere.freeruns import REGISTERS, FreeRun, program_of
 from loadanywhere.kinds import is_integer, is_row, is_row_of, is_truth
 
 MOST = 10 ** 30
@@ -29,7 +29,7 @@ class Counting:
     """Follows great answers to count how often each instruction is done."""
 
     def __init__(self, image):
-        self.led = Led(FreeRun(Program(image, NoNumbers())))
+        self.led = Led(FreeRun(program_of(image, NoNumbers())))
 
     def lap(self, answers, many, laps):
         """Gives answers many times, by which the run comes back to its stand, and all that laps times."""
@@ -43,9 +43,9 @@ class Reckoning:
     """Follows great answers to reckon what is held modulo a number."""
 
     def __init__(self, image, residues):
-        self.led = Led(FreeRun(Program(image, residues)))
+        self.led = Led(FreeRun(program_of(image, residues)))
         self.modulo = residues.modulo
-        self.program = Program(image, ResidueRows(residues))
+        self.program = program_of(image, ResidueRows(residues))
 
     def lap(self, answers, many, laps):
         """As that of Counting: what a lap does is a row for each where, and rows can be put into rows."""

@@ -1,39 +1,58 @@
-"""Spans: all sums of multiples, fractions among them, of rows of integers."""
+"""Spans: all sums of multiples, fractions among them, of rows of integers.
+
+Rows are told as dicts from columns to the numbers there other than 0, and never changed.
+"""
 
 from math import gcd
 
 
-def without_divisor(row):
-    """The row without a common divisor, its first number other than 0 above 0."""
-    divisor = 0
-    first = 0
-    for number in row:
-        divisor = gcd(divisor, number)
-        if first == 0:
-            first = number
-    if first < 0:
-        divisor = -divisor
-    if divisor in (0, 1):
-        return list(row)
-    return [number // divisor for number in row]
+def sparse(row):
+    return {column: number for column, number in enumerate(row) if number != 0}
+
+
+def dense(row, many):
+    return tuple([row.get(column, 0) for column in range(many)])
 
 
 def first_in(row):
-    """Where the first number other than 0 stands; the length of the row if there is none."""
-    for column, number in enumerate(row):
-        if number != 0:
-            return column
-    return len(row)
+    return min(list(row))
+
+
+def without_divisor(row):
+    """The row without a common divisor, its first number above 0."""
+    divisor = 0
+    for number in row.values():
+        divisor = gcd(divisor, number)
+        if divisor == 1:
+            break
+    if row and row[first_in(row)] < 0:
+        divisor = -divisor
+    if divisor in (0, 1):
+        return row
+    return {column: number // divisor for column, number in row.items()}
+
+
+def with_row(row, other, many):
+    """The row and so many times other."""
+    found = {column: number for column, number in row.items()}
+    for column, number in other.items():
+        worth = found.get(column, 0) + many * number
+        if worth != 0:
+            found[column] = worth
+        elif column in found:
+            del found[column]
+    return found
 
 
 def cleared(row, other, column):
     """A multiple of row, less a multiple of other, that has 0 in a column in which other has not."""
-    if row[column] == 0:
+    if column not in row:
         return row
     divisor = gcd(row[column], other[column])
     many = other[column] // divisor
-    less = row[column] // divisor
-    return without_divisor([many * number - less * taken for number, taken in zip(row, other)])
+    if many != 1:
+        row = {taken: many * number for taken, number in row.items()}
+    return without_divisor(with_row(row, other, -(row[column] // other[column])))
 
 
 class Span:
@@ -43,28 +62,35 @@ class Span:
         self.steps = {}
 
     def rest(self, row):
-        """What is left of a row when what the span has of it is taken away: nothing but 0 if it is in it."""
+        """What is left of a row when what the span has of it is taken away: an empty one if it is in it."""
         left = without_divisor(row)
         for column in sorted(list(self.steps)):
             left = cleared(left, self.steps[column], column)
         return left
 
     def put(self, row):
+        """Puts a row in; tells whether the span has grown by it."""
         left = self.rest(row)
-        column = first_in(left)
-        if column < len(left):
-            self.steps[column] = left
+        if left:
+            self.steps[first_in(left)] = left
+        return len(left) > 0
 
     def rank(self):
         return len(self.steps)
 
     def base(self):
         """The rows in their one form: where one begins all others have 0."""
-        columns = sorted(list(self.steps))
         found = []
-        for column in reversed(columns):
+        for column in sorted(list(self.steps), reverse=True):
             row = self.steps[column]
             for other in found:
                 row = cleared(row, other, first_in(other))
-            found.append(without_divisor(row))
-        return tuple([tuple(row) for row in reversed(found)])
+            found.append(row)
+        return list(reversed(found))
+
+
+def span_of(rows):
+    span = Span()
+    for row in rows:
+        span.put(row)
+    return span

@@ -150,11 +150,16 @@ class Checker:
         if isinstance(node, ast.Call):
             self.call(file, node)
         if isinstance(node, ast.Name):
+            if node.id == "super":
+                self.super_call(file, node)
+                return
             if node.id in vars(builtins) and node.id not in BUILTINS:
                 self.say(file, node, "L8", "builtin " + node.id)
             self.name(file, node, node.id)
         if isinstance(node, ast.Attribute):
-            if node.attr in NOWHERE or node.attr in ("format", "format_map") or node.attr.startswith("__"):
+            is_super = isinstance(node.value, ast.Call) and getattr(node.value.func, "id", "") == "super"
+            if node.attr in NOWHERE or node.attr in ("format", "format_map") or (
+                    node.attr.startswith("__") and not (is_super and node.attr == "__init__")):
                 self.say(file, node, "L17", node.attr)
             if isinstance(node.ctx, ast.Store) and not isinstance(node.value, ast.Name):
                 self.say(file, node, "L18", "assigned through more than a name")
@@ -179,6 +184,13 @@ class Checker:
             if node.args.defaults or sum(isinstance(one, ast.Lambda) and one.lineno == node.lineno
                                          for one in ast.walk(self.trees[file])) > 1:
                 self.say(file, node, "L13", "lambda")
+
+    def super_call(self, file, node):
+        """super() stands only as super().told(..), also as super().__init__(..), right in the rows of a method."""
+        told = node.parent.parent
+        right = isinstance(node.parent, ast.Call) and not node.parent.args and isinstance(told, ast.Attribute)
+        if not right or not isinstance(told.parent, ast.Call) or told.parent.func is not told:
+            self.say(file, node, "L5", "super")
 
     def name(self, file, node, name):
         if name in NOWHERE or name in NOT_AS_NAMES or name.startswith("__"):
@@ -241,7 +253,7 @@ class Checker:
         if isinstance(func, ast.Attribute):
             own = {one.name for tree in self.trees.values() for part in ast.walk(tree)
                    if isinstance(part, ast.ClassDef) for one in part.body if isinstance(one, ast.FunctionDef)}
-            if func.attr not in METHODS and func.attr not in own:
+            if func.attr not in METHODS and func.attr not in own and func.attr != "__init__":
                 self.say(file, node, "L25", func.attr)
             if func.attr in METHODS and node.keywords:
                 self.say(file, node, "L22", "keyword of " + func.attr)

@@ -99,8 +99,11 @@ def as_address(value):
     return value[1:] if value is not None and value[0] == "at" else None
 
 
-def naive_free(image, answers):
-    """The events of a free run, (at, registers, words) behind it, and how often each instruction is done."""
+def naive_free(image, answers, watch=None, limit=10000):
+    """The events of a free run, (at, registers, words) behind it, and how often each instruction is done.
+
+    Watch is called ahead of each instruction with its address, what it is, the registers, the data words, and how
+    many answers were given."""
     kinds = {p: kind for p, kind, _ in image.pieces()}
     fixed = {(p, k): word for p, _, words in image.pieces() for k, word in enumerate(words)}
     data = {address: value_of(word) for address, word in fixed.items() if kinds[address[0]] == "data"}
@@ -115,8 +118,9 @@ def naive_free(image, answers):
     def told(event):
         return events + [event], (at, tuple(r), data), counts
 
+    given = len(answers)
     while True:
-        if done == 10000:
+        if done == limit:
             return told(("silent",))
         lost = ("lost",) + at
         if at not in fixed or kinds[at[0]] != "code" or instruction(fixed[at]) is None:
@@ -128,6 +132,8 @@ def naive_free(image, answers):
         if called in ("load", "store") and not isinstance(d, int):
             return told(lost)
         behind = (p, k + 2) if called in LONG else (p, k + 1)
+        if watch is not None:
+            watch(at, (called, x, y, d), r, data, given - len(answers))
         if called in ("ask", "go", "here", "call"):
             aim = value_of(plus(sum_of_value(("at", p, k)), d))
         elif called in LONG:

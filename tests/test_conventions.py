@@ -31,6 +31,21 @@ INTERFACE = {
     "modules": ["Module(name, unit, needs=(), weak=(), late=()): __eq__(other)",
                 "Shelf(modules): names(), module(name), __eq__(other)", "group_of(shelf, name)",
                 "beginnings(shelf, name)", "is_beginning(shelf, name, thing)"],
+    "spaces": ["Space(shelf, root): bring(name, ahead=False), close(name), call(name, wanted), opened(), scope(), "
+               "loaded(), bound(), undo(), again(), copy()"],
+    "holdings": ["held_by(space, name)", "is_chain(space, name, thing)", "loaded_unit(space)",
+                 "loaded_words(space, places)", "early_image(shelf, root, name)"],
+    "scopesteps": ["stepped(shelf, root, steps)", "spaces(shelf, root, some)",
+                   "meanings(shelf, root, some, name, wanted)"],
+    "latenames": ["late_parting(shelf, root, some)", "late_table(shelf, root, some)",
+                  "shows_late(shelf, root, some, thing)"],
+    "processes": ["Process(shelf, root, name): give(answers), bring(name, ahead=False), close(name), space(), state(), "
+                  "events(), undo(), again()"],
+    "movetables": ["points(image)", "multiples(image, answers)", "sure_multiples(image, at)", "can_be_moved(image, at)",
+                   "unsure(image, at, p)", "unlike_runs(image, at, where, p)", "never_moved(image)",
+                   "move_table(image)"],
+    "movepapers": ["is_move_table(image, thing)", "sure_by(image, table, at)"],
+    "movenotes": ["to_note(image)", "shown_places(image)", "unseen(image, at, p)", "first_shown(image, p)"],
 }
 
 

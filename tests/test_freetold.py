@@ -3,7 +3,7 @@
 import unittest
 
 from loadanywhere.errors import BadAnswer
-from loadanywhere.freeruns import FreeRun, Program
+from loadanywhere.freeruns import FreeRun, program_of
 from loadanywhere.freenumbers import SumNumbers
 from loadanywhere.freetold import free_events, free_state
 from loadanywhere.images import Image
@@ -181,7 +181,7 @@ class EventsTold(unittest.TestCase, Raising):
         self.assertEqual(registers[2][1][1][0], (("in", 1), 2 ** 2499))
 
     def test_stands(self):
-        run = FreeRun(Program(code([coded(SET, 1), at("d", 3)], [at("a", 1), 5]), SumNumbers()))
+        run = FreeRun(program_of(code([coded(SET, 1), at("d", 3)], [at("a", 1), 5]), SumNumbers()))
         self.assertEqual(run.marked(), (("a", 0), (None,) * 8 + (("a", 1), None)))
         run.do(run.step())
         self.assertEqual(run.marked(), (("a", 2), (None, ("d", 3)) + (None,) * 6 + (("a", 1), None)))

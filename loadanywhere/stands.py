@@ -1,0 +1,27 @@
+"""Stands, read from any objects by their form."""
+
+from loadanywhere.kinds import is_row_of, read_address
+
+
+def read_mark(seats, thing):
+    """Any object as the address of one of the pieces; None if it is none."""
+    mark = read_address(thing)
+    if mark is None or mark[0] not in seats:
+        return None
+    return mark
+
+
+def read_stand(talks, thing):
+    """Any object as a stand at a word of a code piece; None if it has not the form of one."""
+    if not is_row_of(thing, 2) or not is_row_of(thing[1], len(talks.program.begin)):
+        return None
+    at = read_address(thing[0])
+    if at is None or at not in talks.program.steps:
+        return None
+    marks = []
+    for one in thing[1]:
+        mark = read_mark(talks.numbers.seats, one)
+        if one is not None and mark is None:
+            return None
+        marks.append(mark)
+    return (at, tuple(marks))
