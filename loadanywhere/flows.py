@@ -6,6 +6,7 @@ whose rows are in no span of those that came to it ahead.
 """
 
 from loadanywhere.spans import Span
+from loadanywhere.trails import Trails
 
 
 class Arrival:
@@ -32,7 +33,7 @@ class Flow:
         self.talks = talks
         self.spans = {}
         self.arrivals = []
-        self.trails = [(None, None)]
+        self.trails = Trails()
         self.waiting = []
 
     def is_new(self, stand, rows):
@@ -64,8 +65,7 @@ class Flow:
 
     def ask(self, trail, stand, rows):
         for answer in (False, True):
-            self.trails.append((trail, answer))
-            self.waiting.append((len(self.trails) - 1, self.talks.past(stand, answer), rows))
+            self.waiting.append((self.trails.longer(trail, answer), self.talks.past(stand, answer), rows))
 
     def go(self):
         """Follows all runs that wait for their answers, in the order of the answers."""
@@ -74,14 +74,6 @@ class Flow:
             trail, way, rows = self.waiting[looked]
             self.come(trail, way, rows)
             looked += 1
-
-    def truths(self, trail):
-        """The row of truths of a trail."""
-        found = []
-        while trail != 0:
-            trail, answer = self.trails[trail]
-            found.append(answer)
-        return tuple(list(reversed(found)))
 
 
 def flow_of(talks):

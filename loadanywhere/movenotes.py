@@ -151,5 +151,5 @@ def first_shown(image, p):
     flow = flow_of(talks)
     for one in flow.arrivals:
         if shows(talks, one, p):
-            return flow.truths(one.trail)
+            return flow.trails.row_of_answers(one.trail)
     return None

@@ -107,7 +107,7 @@ def unlike_runs(image, at, where, p):
     first = arrivals[0]
     for other in arrivals:
         if other.multiple(talks.numbers, index, p) != first.multiple(talks.numbers, index, p):
-            return (flow.truths(first.trail), flow.truths(other.trail))
+            return (flow.trails.row_of_answers(first.trail), flow.trails.row_of_answers(other.trail))
     return None
 
 

@@ -1,6 +1,7 @@
 """Stands, read from any objects by their form."""
 
 from loadanywhere.kinds import is_row_of, read_address
+from loadanywhere.talks import TALKING
 
 
 def read_mark(seats, thing):
@@ -25,3 +26,13 @@ def read_stand(talks, thing):
             return None
         marks.append(mark)
     return (at, tuple(marks))
+
+
+def read_talking(talks, thing):
+    """Any object as a talking stand by its form; None if it has not the form of one."""
+    if is_row_of(thing, 1) and isinstance(thing[0], str) and thing[0] == "silent":
+        return ("silent",)
+    stand = read_stand(talks, thing)
+    if stand is None or talks.program.steps[stand[0]] is None:
+        return None
+    return stand if talks.program.steps[stand[0]].called in TALKING else None

@@ -74,6 +74,21 @@ def do_event(free, answer):
     return free.do(step)
 
 
+def held_behind(way, row, seats, handed):
+    """What is held behind a way if a row holds ahead of it; seats are the columns of the row for those of the way."""
+    found = {}
+    for column in way.kept:
+        if seats[column] in row:
+            found[seats[column]] = row[seats[column]]
+    for column, parts in way.newer.items():
+        worth = 0
+        for taken, multiple in parts.items():
+            worth += multiple * (handed if taken == HANDED else row.get(seats[taken], 0))
+        if worth != 0:
+            found[seats[column]] = worth
+    return found
+
+
 class Talks:
     """The free runs of an image from stand to stand; each way is looked for once."""
 
@@ -81,6 +96,7 @@ class Talks:
         self.numbers = Columns(image)
         self.program = program_of(image, self.numbers)
         self.wide = self.numbers.wide
+        self.own_columns = list(range(self.wide + len(self.program.begin)))
         self.onwards = {}
         self.behinds = {}
 
@@ -135,11 +151,5 @@ class Talks:
     def carried(self, way, row):
         """What comes of a row by a way; nothing is handed in."""
         found = {column: row[column] for column in range(self.wide) if column in row}
-        for column in way.kept:
-            if column in row:
-                found[column] = row[column]
-        for column, parts in way.newer.items():
-            worth = sum([multiple * row.get(taken, 0) for taken, multiple in parts.items()])
-            if worth != 0:
-                found[column] = worth
+        found.update(held_behind(way, row, self.own_columns, 0))
         return found

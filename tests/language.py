@@ -44,6 +44,8 @@ class Checker:
         self.sources = sources
         self.trees = {name: ast.parse(text) for name, text in sources.items()}
         self.found = []
+        self.own = {one.name for tree in self.trees.values() for part in ast.walk(tree)
+                    if isinstance(part, ast.ClassDef) for one in part.body if isinstance(one, ast.FunctionDef)}
         self.methods = {}
         self.attributes = {}
         self.read = {}
@@ -251,8 +253,7 @@ class Checker:
         if isinstance(func, ast.Name):
             self.builtin_call(file, node, func.id)
         if isinstance(func, ast.Attribute):
-            own = {one.name for tree in self.trees.values() for part in ast.walk(tree)
-                   if isinstance(part, ast.ClassDef) for one in part.body if isinstance(one, ast.FunctionDef)}
+            own = self.own
             if func.attr not in METHODS and func.attr not in own and func.attr != "__init__":
                 self.say(file, node, "L25", func.attr)
             if func.attr in METHODS and node.keywords:
