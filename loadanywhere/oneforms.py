@@ -42,12 +42,13 @@ class Classes:
         return [self.beside.node(way) for way in ways]
 
     def parted(self):
+        """The dict from nodes to the numbers of their classes: parted by what stands behind until nothing parts."""
+        elder = {}
         classes = numbered(self.kinds_here)
-        many = 0
-        while len(dict(zip(classes.values(), classes))) > many:
-            many = len(dict(zip(classes.values(), classes)))
-            behind = {node: tuple([classes[other] for other in self.nodes_behind(node)]) for node in classes}
-            classes = numbered({node: (classes[node], behind[node]) for node in classes})
+        while classes != elder:
+            elder = classes
+            behind = {node: tuple([elder[other] for other in self.nodes_behind(node)]) for node in elder}
+            classes = numbered({node: (elder[node], behind[node]) for node in elder})
         return classes
 
     def members(self):

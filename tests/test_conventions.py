@@ -45,6 +45,19 @@ INTERFACE = {
                    "unsure(image, at, p)", "unlike_runs(image, at, where, p)", "never_moved(image)",
                    "move_table(image)"],
     "movepapers": ["is_move_table(image, thing)", "sure_by(image, table, at)"],
+    "movers": ["Mover(image, places): give(answers), undo(), again(), registers(), at(), words(), events(), places(), "
+               "move(moves)"],
+    "walks": ["lost_row(image)", "talking_stands(image)", "alike(one, other)",
+              "alike_from(one, here, other, there, rows)"],
+    "partings": ["alike_paper(one, other)", "least_parting(one, other)", "looks_at_places(image)"],
+    "papers": ["is_paper(one, other, thing)", "paper_turned(one, other, thing)",
+               "papers_joined(one, middle, other, first, second)"],
+    "sures": ["span_at(image, stand)", "sure_sums(image, stand)", "surely(image, stand, factors)",
+              "sure_value(image, stand, x)", "needed_sums(image, stand)", "least_held(image, stand)"],
+    "oneforms": ["one_form(image)"],
+    "drafts": ["Draft(rows): __len__(), __eq__(other), rows(), branches(), offsets(choice), way(choice, index), "
+               "fits(choice), grown(), all_fits(), many_fits(), least(), tight(), shrunk(), reasons(), "
+               "are_reasons(thing), room(at), put(at, row), without(at), regrown(at, row), coded_words(p, choice)"],
     "movenotes": ["to_note(image)", "shown_places(image)", "unseen(image, at, p)", "first_shown(image, p)"],
 }
 
