@@ -55,13 +55,13 @@ def read_link(thing):
 
 def is_chain(space, name, thing):
     space.shelf.module(name)
-    if not is_row(thing) or len(thing) == 0:
+    if not is_row(thing):
         return False
     links = links_of(space)
     reached = None
     for one in thing:
         link = read_link(one)
-        if link is None or link not in links or links[link][0] != reached:
+        if link not in links or links[link][0] != reached:
             return False
         reached = links[link][1]
     return reached == name

@@ -50,7 +50,7 @@ class LateLed(Led):
         address = named_word(self.free, step)
         if step.called == "store":
             super().do(step)
-            if address in self.slots and not self.over:
+            if address in self.slots:
                 del self.slots[address]
         elif address not in self.slots or self.is_bound_now(self.slots[address]):
             super().do(step)

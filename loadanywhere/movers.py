@@ -2,7 +2,7 @@
 
 from loadanywhere.errors import Ended, NoDeed, Strays, Unsure
 from loadanywhere.flows import flow_of
-from loadanywhere.images import check_overs, laid
+from loadanywhere.images import laid
 from loadanywhere.movetables import arrivals_at, sure_in
 from loadanywhere.plainsteps import begun, check_answers, ready_code
 from loadanywhere.relocating import check_moves
@@ -85,16 +85,15 @@ class Mover:
         further = {p: moves.get(p, 0) for p, _, _ in image.pieces()}
         sure = self.sure_here(further)
         spots = {p: lodging.spots[p] + further[p] for p in further}
-        check_overs([(p, spots[p], spots[p] + len(words)) for p, _, words in image.pieces()])
-        if lodging.has_begun:
-            run = moved_run(image, lodging, spots, further, sure)
-        else:
-            run = begun(image, spots)
+        run = moved_run(image, lodging, spots, further, sure)
         self.change(Lodging(run, spots, lodging.has_begun))
         return len(run.heard)
 
     def sure_here(self, further):
-        """The multiples that are sure where the run waits; Unsure if one of a piece that is moved is not."""
+        """The multiples that are sure where the run waits; Unsure if one of a piece that is moved is not.
+
+        Ahead of the first give all words and registers are as at first, at whatever places.
+        """
         lodging = self.lodging()
         if not lodging.has_begun:
             return {}

@@ -117,6 +117,10 @@ class Rows(unittest.TestCase, Raising):
         self.assert_raises_with(BadDraft, {"index": 0}, Draft, [go("a", 1), label("a"), label("a")])
         self.assert_raises_with(BadDraft, {"index": 1}, Draft, [go("a", 1), ("label", "a", 0)])
 
+    def test_labels_that_are_called_as_branches(self):
+        for rows in ([label("go"), go("go"), label("ask")], [go("go"), label("go"), go("ask", 0, "ask"), label("ask")]):
+            self.assertEqual(Draft(rows).rows(), rows)
+
     def test_equal_to_drafts_of_equal_rows_alone(self):
         draft = Draft([label("a"), words(1)])
         self.assertTrue(draft == Draft([label("a"), words(1)]))
@@ -248,6 +252,8 @@ class Reasons(unittest.TestCase, Raising):
         self.assertTrue(draft.are_reasons([(0, (1, 2))]))
         self.assertTrue(draft.are_reasons([(0, [1])]))
         self.assertFalse(draft.are_reasons([(0, (2, 1))]))
+        self.assertFalse(draft.are_reasons([(0, (True, 2))]))
+        self.assertRaises(BadChoice, draft.offsets, [True, 2])
         self.assertFalse(draft.are_reasons([(0, (1, 1))]))
 
     def test_by_chance(self):
@@ -303,6 +309,7 @@ class Changes(unittest.TestCase, Raising):
         self.assertEqual(draft.put(row=["label", "a"], at=0), Draft([label("a"), go("a"), words(1)]))
         self.assertEqual(draft.without(at=0), Draft([words(1)]))
         self.assertEqual(draft.put(1, label("a")).without(1), draft)
+        self.assertEqual(draft.without(1), Draft([go("a")]))
         self.assertEqual(len(draft), 2)
 
     def test_bad_at_and_bad_draft(self):

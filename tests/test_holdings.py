@@ -161,6 +161,9 @@ class Words(unittest.TestCase, Raising):
         self.assertEqual(image.first, ("main", 0))
         self.assertEqual(image.word("slots", 0), at("lib", 0))
         self.assertEqual(image.word("slots", 1), (0, ()))
+        user = Module("user", Unit([("u", "code", [coded(7, 1), named("one", 4), coded(0)])], {"user": ("u", 0)}), ["lib"])
+        early = early_image(Shelf([user, small_shelf().module("lib")]), "user", "user")
+        self.assertEqual(early.word("u", 1), at("lib", 4))
         self.assertEqual(free_events(image, [False])[0], ("tell", at("lib", 0)))
 
     def test_early_errors(self):

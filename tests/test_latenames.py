@@ -108,12 +108,15 @@ class Partings(unittest.TestCase, Raising):
         opened, loaded, meant = rng.choice(table)
         for bent in ((opened + opened[:1] if opened else ("ma", "ma"), loaded, meant), (opened, loaded + ("mz",), meant),
                      (opened, loaded, {**meant, ("ma", "zz"): None}), (opened, loaded[1:] + ("zz",), meant),
+                     (opened, None, meant), (opened, {name: 1 for name in loaded}, meant), (opened, "ma", meant),
                      (opened, loaded), (opened, loaded, list(meant)), (None, loaded, meant), (opened, loaded * 2 or ("ma",), meant)):
             self.assertFalse(shows_late(shelf, "ma", some, table + [bent]))
         for key in meant:
             for worth in [7, [], "zz", "not  bound", True] + ([] if key[1] in shelf.module(key[0]).weak else [None]):
                 self.assertFalse(shows_late(shelf, "ma", some, table + [(opened, loaded, {**meant, key: worth})]))
             less = {other: meant[other] for other in meant if other != key}
+            other = {**less, ("ma", "zz"): meant[key]}
+            self.assertFalse(shows_late(shelf, "ma", some, table + [(opened, loaded, other)]))
             self.assertFalse(shows_late(shelf, "ma", some, table + [(opened, loaded, less)]))
 
 
@@ -136,7 +139,11 @@ class Tables(unittest.TestCase, Raising):
         self.assertFalse(shows_late(shelf, "main", [("close", "main")], table[:1] + [right]))
         held = (("other",), ("other", "main"), {("main", "one"): "other", ("main", "maybe"): "other", ("other", "table"): "main"})
         self.assertTrue(shows_late(shelf, "main", [], table[:1] + [held]))
-        for bent in ((("other",), ("other",), {("other", "table"): "main"}),
+        all_open = (("main", "other"), ("main", "lib", "other"), {
+            ("main", "maybe"): "other", ("main", "one"): "lib", ("other", "table"): "main"})
+        self.assertTrue(shows_late(shelf, "main", [], table[:1] + [all_open]))
+        for bent in ((("other",), ("other",), {("other", "table"): "main"}), (("main",), ("main", "other"), all_open[2]),
+                     (*all_open[:2], {**all_open[2], ("other", "table"): "lib"}),
                      (("other",), ("other", "main"), {**held[2], ("other", "table"): "lib"}),
                      (("other",), ("other", "main"), {**held[2], ("other", "table"): "not bound"}),
                      (("other",), ("other", "main"), {**held[2], ("other", "table"): None}),

@@ -186,6 +186,37 @@ class Holding(unittest.TestCase, Raising):
         process.close("none")
         self.assertEqual(process.space().loaded(), ["main"])
 
+    def test_data_words_of_held_modules(self):
+        """hop puts an address of its own into a word of main, and goes there with no other one left."""
+        hop = Unit([("h", "code", [coded(SET, 2), named("cell"), coded(SET, 1), at("g", -9), coded(STORE, 1, 2), coded(SET, 1),
+                                   0, coded(SET, 2), named("main"), coded(JUMP, 2)]), ("g", "data", [0])], {"hop": ("h", 0)})
+        main = Unit([("c", "code", [coded(COPY, 2, 3), coded(ASK, 0, 0, 0), coded(SET, 4), at("d"), coded(STORE, 3, 4),
+                                    coded(ASK, 0, 0, 0)]), ("d", "data", [0])], {"main": ("c", 0), "cell": ("d", 0)})
+        shelf = Shelf([Module("hop", hop), Module("main", main), Module("none", Unit([])), Module("both", Unit([]), ["main", "hop"])])
+        process = Process(shelf, "both", "hop")
+        process.bring("main")
+        process.give([])
+        process.close("both")
+        self.assertEqual(process.space().loaded(), ["main", "hop"])
+        self.assertEqual(process.state()[2][("d", 0)], ("at", "g", -9))
+        process.give([False])
+        process.bring("none")
+        process.close("none")
+        self.assertEqual(process.space().loaded(), ["main"])
+
+    def test_slots_of_modules_that_come_later(self):
+        code = [coded(SET, 1), at("d"), coded(LOAD, 2, 1), coded(ASK, 0, 0, 0), coded(JUMP, 2)]
+        main = Unit([("c", "code", code), ("d", "data", [named("hop")])], {"main": ("c", 0)})
+        hop = Unit([("h", "code", [coded(SET, 1), at("g"), coded(LOAD, 3, 1), coded(TELL, 3), coded(ASK, 0, 0, 0)]),
+                    ("g", "data", [named("main"), at("main", 3)]), ("main", "data", [0])], {"hop": ("h", 0)})
+        shelf = Shelf([Module("main", main, [], [], ["hop"]), Module("hop", hop, [], [], ["main"])])
+        process = Process(shelf, "main", "main")
+        process.bring("hop")
+        self.assertEqual(process.give([False]), [("ask", False), ("tell", at("c"))])
+        self.assertEqual(process.space().bound(), {("main", "hop"): "hop", ("hop", "main"): "main"})
+        # A piece that is called as a late name is no slot of it.
+        self.assertEqual(process.state()[2][("g", 1)], ("at", "main", 3))
+
     def test_words_that_stay_and_words_that_come_anew(self):
         code = [coded(SET, 1), at("d"), coded(STORE, 1, 1), coded(ASK, 0, 0, 0), coded(0)]
         main = Unit([("c", "code", code), ("d", "data", [5])], {"main": ("c", 0)})

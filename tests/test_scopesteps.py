@@ -57,7 +57,7 @@ class Stepped(unittest.TestCase, Raising):
         good = ("open", "other")
         wrong = any_objects() + [
             ("open", "zz"), ("open",), ("open", "lib", "lib"), ("call", "main"), ("call", "main", "main"),
-            ("call", "lib", "one"), ("call", "other", "table"), ("call", "zz", "one"), ("shut", "main"),
+            ("call", "lib", "one"), ("open", "main", "one"), ("call", "other", "table"), ("call", "zz", "one"), ("shut", "main"),
             ("open", None), ("call", "main", None), "open main", ("open", ["other"]), ("", "main"),
             ("open", "main"), ("close", "lib"), ("call", "other", "one")]
         for thing in wrong:
