@@ -20,8 +20,7 @@ class Courses:
         """Follows runs by ways to the next ask, or to where they came before, end, part, or get lost."""
         while ways is not None:
             if is_lost_in(ways):
-                if self.loss is None:
-                    self.loss = trail
+                self.loss = trail
                 return
             node = self.beside.node(ways)
             if node in self.first_trails:

@@ -89,7 +89,7 @@ class Draft:
         found = []
         for many in range(len(self.aims) + 1):
             choices = [tuple(sorted(list(self.outs + some))) for some in combinations(list(self.aims), many)]
-            found.extend([choice for choice in sorted(choices) if self.fits(choice)])
+            found.extend([choice for choice in sorted(choices) if not too_long_ones(self.parts, self.aims, choice)])
         return found
 
     def many_fits(self):
@@ -98,12 +98,14 @@ class Draft:
     def least(self):
         return min(self.all_fits(), key=lambda choice: measured(self.parts, choice)[-1])
 
-    def is_tight(self, choice):
-        """Whether a choice that fits does not without any one of its branches that do not lead out."""
-        return not any([self.fits(without_one(choice, index)) for index in choice if index in self.aims])
-
     def tight(self):
-        return [choice for choice in self.all_fits() if self.is_tight(choice)]
+        fitting = {choice: True for choice in self.all_fits()}
+        found = []
+        for choice in fitting:
+            nearer = [without_one(choice, index) for index in choice if index in self.aims]
+            if not any([other in fitting for other in nearer]):
+                found.append(choice)
+        return found
 
     def shrunk(self):
         choice = self.forks

@@ -75,10 +75,8 @@ class WatchedRun(FreeRun):
         target = step.x
         if step.called == "store":
             target = self.program.wheres.get(named_word(self, step))
-        is_done = super().do(step)
-        if is_done:
-            self.moments.note_put(at, target, sources)
-        return is_done
+        self.moments.note_put(at, target, sources)
+        return super().do(step)
 
     def answered(self, step, yes):
         self.moments.note(self, step)

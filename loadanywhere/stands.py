@@ -17,7 +17,7 @@ def read_stand(talks, thing):
     if not is_row_of(thing, 2) or not is_row_of(thing[1], len(talks.program.begin)):
         return None
     at = read_address(thing[0])
-    if at is None or at not in talks.program.steps:
+    if at not in talks.program.steps:
         return None
     marks = []
     for one in thing[1]:

@@ -93,10 +93,8 @@ def sure_value(image, stand, x):
         worth = worth_by(factors, row)
         if column >= sights.runs.wide and worth != 0:
             return None
-        # Rows begin with 1, and with each place, so these tell the number and the multiples.
+        # There are rows that begin with 1, and with each place: these tell the number and the multiples.
         if column < sights.runs.wide:
-            if worth % row[column] != 0:
-                return None
             found[column] = worth // row[column]
     return one_form(found[0], {names[column]: found[column] for column in names})
 

@@ -45,6 +45,25 @@ class Notes(unittest.TestCase, Raising):
         image = Image([("c", "code", words)], ("c", 0))
         self.assertEqual(to_note(image), [("register", 1), ("register", 3)])
 
+    def test_a_silent_ring_of_many_laps(self):
+        """r3 is put into r1 in the ring; it is another one only in the fourth lap, by way of r4 and r5 from r6."""
+        words = [coded(SET, 6), at("c"), coded(ADD, 6, 0)]
+        for x in (5, 4, 3):
+            words += [coded(COPY, x, 6)]
+        words += [coded(ADD, 6, 3), coded(ASK, 0, 0, 3), coded(SET, 1), at("c"), coded(ASK, 0, 0, 1),
+                  coded(COPY, 1, 3), coded(COPY, 3, 4), coded(COPY, 4, 5), coded(COPY, 5, 6), coded(GO, 0, 0, -4)]
+        image = Image([("c", "code", words)], ("c", 0))
+        self.assertEqual(to_note(image), [("register", n) for n in (1, 3, 4, 5)])
+        self.assertEqual(Brute(image, 3).lot(), to_note(image))
+
+    def test_what_other_instructions_put_is_put_together_from_nothing(self):
+        """r1 is set while r0 names a word that is unsure; where the run waits that is sure again."""
+        words = [coded(SET, 0), at("d"), coded(ASK, 0, 0, 4), coded(SET, 2), at("c"), coded(STORE, 2), coded(SET, 1), at("c"),
+                 coded(STORE, 7), coded(COPY, 2, 7), coded(ASK, 0, 0, 3), coded(SET, 1), 0, coded(TAKE), coded(0)]
+        image = Image([("c", "code", words), ("d", "data", [0])], ("c", 0))
+        self.assertEqual(to_note(image), [("register", 1)])
+        self.assertEqual(Brute(image, 4).lot(), to_note(image))
+
     def test_beside_all_rows(self):
         like = 0
         for image in random_images(50, 150):

@@ -4,6 +4,7 @@ import unittest
 
 from loadanywhere.errors import BadAnswer, BadTable, NoPiece, NoPoint, NoWhere
 from loadanywhere.images import Image
+from loadanywhere.movenotes import to_note
 from loadanywhere.movepapers import is_move_table, sure_by
 from loadanywhere.movetables import (
     can_be_moved, move_table, multiples, never_moved, points, sure_multiples, unlike_runs, unsure,
@@ -86,6 +87,12 @@ class ByHand(unittest.TestCase, Raising):
         self.assertEqual(unlike_runs(image, ("c", 10), ["register", 1], "d"), ((False,), (False, False)))
         self.assertEqual(unlike_runs(p="d", where=("register", 1), at=("c", 9), image=image), None)
         self.assertIsNone(unlike_runs(image, ("c", 10), ["word", "d", 1], "c"))
+
+    def test_an_address_beside_a_number(self):
+        words = [coded(SET, 1), at("d"), coded(ASK, 0, 0, 2), coded(ADD, 1, 0), coded(TAKE), coded(0)]
+        image = Image([("c", "code", words), ("d", "data", [0])], ("c", 0))
+        self.assertEqual(sure_multiples(image, ("c", 4))[("register", 1)], {"c": 0, "d": 1})
+        self.assertEqual(to_note(image), [])
 
     def test_the_same_row_twice(self):
         words = [coded(TAKE, 1), coded(SET, 2), at("c", 5), coded(ADD, 3, 2), coded(GO, 0, 0, -4)]
@@ -252,6 +259,14 @@ class Tables(unittest.TestCase, Raising):
         self.assertFalse(is_move_table(image, [((("c", 0), nothing), shifted, ())]))
         self.assertTrue(is_move_table(image, [((("c", 0), nothing), shifted, (shifted,))]))
         self.assertEqual(sure_by(image, [((("c", 0), nothing), shifted, (shifted,))], ("c", 0))[("register", 0)], {"c": None})
+
+    def test_addresses_at_stands_to_which_nothing_leads(self):
+        words = [coded(TAKE, 1), coded(0), coded(TAKE, 2), coded(0)]
+        image = Image([("c", "code", words)], ("c", 0))
+        stand = (("c", 2), (("c", 77),) + (None,) * 7)
+        for row, rows, is_right in (((1,) + (5,) * 7, ((0,) + (3,) * 7,), True), ((0,) * 8, (), False), ((2,) + (0,) * 7, (), False),
+                                    ((1,) + (0,) * 7, ((1,) + (0,) * 7,), False)):
+            self.assertIs(is_move_table(image, move_table(image) + [(stand, row, rows)]), is_right)
 
     def test_a_run_that_never_waits(self):
         image = Image([("c", "code", [coded(TELL), coded(GO, 0, 0, -1)])], ("c", 0))

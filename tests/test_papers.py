@@ -72,7 +72,7 @@ class IsPaper(unittest.TestCase, Raising):
         self.assertTrue(is_paper(one, one, [(here, there, base + (both,)) for here, there, base in greater]))
 
     def test_more_pairs(self):
-        one = image([coded(TAKE, 1), coded(TELL, 1), coded(GO, 0, 0, -2), coded(0), coded(ASK, 0, 0, 0), coded(LOAD, 1, 1)],
+        one = image([coded(TAKE, 1), coded(TELL, 1), coded(GO, 0, 0, -2), coded(0), coded(ASK, 0, 0, 0), coded(LOAD, 1, 1), 31],
                     [4])
         paper = alike_paper(one, one)
         marks = (("d", 700),) + (None,) * 8
@@ -98,7 +98,8 @@ class IsPaper(unittest.TestCase, Raising):
         for row, is_right in ((equal, True), (unlike, False)):
             more = [(take_other, take_other, [row]), (other, other, [row])]
             self.assertIs(is_paper(one, one, paper + more), is_right)
-        for bad in ((("c", 2), marks), (("c", 99), marks), (("d", 0), marks), (("c", 3), marks[1:]),
+        self.assertFalse(is_paper(one, one, paper + [(("noisy",), ("noisy",), [])]))
+        for bad in ((("c", 2), marks), (("c", 99), marks), (("c", 6), marks), (("d", 0), marks), (("c", 3), marks[1:]),
                     (("c", 3), (("z", 0),) + marks[1:])):
             self.assertFalse(is_paper(one, one, paper + [(bad, bad, [])]))
 
@@ -168,6 +169,20 @@ class TurnedAndJoined(unittest.TestCase, Raising):
                     if mid == also and (here, there) not in order:
                         order.append((here, there))
             self.assertEqual([entry[:2] for entry in joined], order)
+
+    def test_joined_with_unlike_numbers_of_pieces(self):
+        def with_pieces(one, many):
+            more = [("e" + "abc"[k], "data", [4] * k) for k in range(many)]
+            return Image(one.pieces() + more, one.first)
+
+        for many in ((0, 1, 2), (2, 0, 1), (1, 3, 0)):
+            one, middle, other = [with_pieces(one, k) for one, k in zip((summing(), summing_in_words(), summing()), many)]
+            first, second = alike_paper(one, middle), alike_paper(middle, other)
+            joined = papers_joined(one, middle, other, first, second)
+            self.assertTrue(is_paper(one, other, joined))
+            self.assertEqual(joined, alike_paper(one, other))
+            back = papers_joined(middle, other, middle, second, paper_turned(middle, other, second))
+            self.assertTrue(is_paper(middle, middle, back))
 
     def test_joined_by_hand(self):
         """The middle holds in r1 what one holds in r1 and other in r2; so the outer ones hold the same there."""

@@ -92,6 +92,22 @@ class Partings(unittest.TestCase, Raising):
         third = image([coded(TAKE, 1), coded(TAKE, 2), coded(TAKE, 3), coded(SET, 4), 9, coded(TELL, 4), coded(0)])
         self.assertEqual(least_parting(other, third)[0], (0, 0, 0))
 
+    def test_registers_that_differ_at_a_take(self):
+        one = image([coded(TAKE, 1), coded(TELL, 1), coded(0)])
+        other = image([coded(SET, 2), 5, coded(TAKE, 2), coded(TELL, 3), coded(0)])
+        self.assertEqual(least_parting(one, other)[0], (1,))
+
+    def test_placings_at_which_nothing_is_told_apart_are_not_told(self):
+        zero = image([coded(SET, 1), 0, coded(TELL, 1), coded(0)], [0])
+        for p, q in (("c", "d"), ("d", "c"), ("d", "e"), ("e", "d")):
+            for number in range(-8, 9):
+                words = [coded(SET, 1), (number, [(("piece", p), 1), (("piece", q), -2)]), coded(TELL, 1), coded(0)]
+                one = Image([("c", "code", words), ("d", "data", [0]), ("e", "data", [0, 0])], ("c", 0))
+                answers, places, others = least_parting(one, zero)
+                self.assertTrue(are_parted(one, places, zero, others, answers))
+                answers, places, others = least_parting(zero, one)
+                self.assertTrue(are_parted(zero, places, one, others, answers))
+
     def test_by_places_alone(self):
         told = image([coded(SET, 1), at("d", 1), coded(TELL, 1), coded(0)], [0, 0])
         answers, places, others = looks_at_places(told)

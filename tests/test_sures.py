@@ -137,6 +137,11 @@ class Needed(unittest.TestCase, Raising):
         self.assertEqual(needed_sums(one, start), ((5, 0, 1, 0, 0, 1, 0, 0, 0, 0, 0),))
         self.assertEqual(least_held(one, start), 1)
 
+    def test_numbers_that_are_kept_beside_new_ones(self):
+        one = image([coded(ASK, 0, 0, 0), coded(COPY, 2, 3), coded(TAKE, 4), coded(ADD, 1, 2), coded(TELL, 1), coded(0)])
+        start = talking_stands(one)[0][1]
+        self.assertEqual(needed_sums(one, start), (unit(11, 4, 6),))
+
     def test_an_address_is_told_by_its_sum(self):
         one = image([coded(SET, 1), at("d", 9), coded(TELL, 1), coded(0)])
         tell = talking_stands(one)[0][1]
@@ -163,7 +168,7 @@ class Errors(unittest.TestCase, Raising):
         one = image([coded(TAKE, 1), coded(TELL, 1), coded(0), coded(ASK)], [4])
         good = (("c", 1), (None,) * 9)
         calls = ((span_at, []), (sure_sums, []), (surely, [None]), (sure_value, [None]), (needed_sums, []), (least_held, []))
-        for thing in any_objects() + [("silent",), (("c", 3), (None,) * 9), (("c", 1), NONE), (("c", 1), (("d", 0),) + NONE),
+        for thing in any_objects() + [("silent",), ("noisy",), (("c", 3), (None,) * 9), (("c", 1), NONE), (("c", 1), (("d", 0),) + NONE),
                                       (("d", 0), (None,) * 9), (("c", 9), (None,) * 9)]:
             for call, more in calls:
                 self.assert_raises_with(NoStand, {"stand": thing}, call, one, thing, *more)

@@ -199,6 +199,21 @@ class From(unittest.TestCase, Raising):
         self.assertFalse(alike_from(takes, here, tells_0, here, [[1] + [0] * 20]))
         self.assertFalse(alike_from(takes, here, tells_0, here, [[2] + [0] * 20]))
 
+    def test_an_address_beside_a_number(self):
+        """One holds an address of d, the other a number: they tell the same if this is its place and offset."""
+        one = image([coded(TELL, 1), coded(0)], [0])
+        here, there = (("c", 0), (None, ("d", 3)) + (None,) * 7), (("c", 0), (None,) * 9)
+
+        def row(number, first=1, place=7):
+            return [first, 0, place, 0, 0] + [0] * 8 + [0, number] + [0] * 7
+
+        self.assertTrue(alike_from(one, here, one, there, [row(10)]))
+        self.assertTrue(alike_from(one, here, one, there, [row(10), row(3, 0, 3), row(3, 1, 0)]))
+        self.assertFalse(alike_from(one, here, one, there, [row(7)]))
+        self.assertFalse(alike_from(one, here, one, there, [row(11)]))
+        self.assertFalse(alike_from(one, here, one, there, [row(10), row(6, 0, 3)]))
+        self.assertTrue(alike_from(one, (here[0], (None, ("d", 0)) + (None,) * 7), one, there, [row(7)]))
+
     def test_marks_that_no_run_has(self):
         one = image([coded(LOAD, 1, 2), coded(TELL, 1), coded(0)], [5, 6])
         marks = (None, None, ("d", 1)) + (None,) * 7
