@@ -106,7 +106,8 @@ def moments_of(image):
     first = WatchedRun(program, moments)
     next_talk(first, first.marked())
     for one in flow_of(talks).arrivals:
-        for answer in (False, True) if one.kind == "ask" else (None,):
+        answers = (False, True) if one.kind == "ask" else (None,)
+        for answer in answers:
             run = watched_at(program, moments, talks, one)
             if one.kind == "silent":
                 next_talk(run, one.stand)

@@ -99,16 +99,18 @@ def as_address(value):
     return value[1:] if value is not None and value[0] == "at" else None
 
 
-def naive_free(image, answers, watch=None, limit=10000):
+def naive_free(image, answers, watch=None, limit=10000, begin=None):
     """The events of a free run, (at, registers, words) behind it, and how often each instruction is done.
 
     Watch is called ahead of each instruction with its address, what it is, the registers, the data words, and how
-    many answers were given."""
+    many answers were given. Begin is where it stands at first, else the start: as a triple of free_state."""
     kinds = {p: kind for p, kind, _ in image.pieces()}
     fixed = {(p, k): word for p, _, words in image.pieces() for k, word in enumerate(words)}
     data = {address: value_of(word) for address, word in fixed.items() if kinds[address[0]] == "data"}
     at = image.first
     r = [("number", (0, ()))] * 8
+    if begin is not None:
+        at, r, data = begin[0], list(begin[1]), dict(begin[2])
     events = []
     counts = {}
     answers = list(answers)

@@ -2,6 +2,7 @@
 
 import unittest
 
+from loadanywhere.bases import base_of
 from loadanywhere.errors import BadField, BadVector, NoStand
 from loadanywhere.images import Image
 from loadanywhere.oneforms import one_form
@@ -14,7 +15,7 @@ from tests.alikes import (
     summing_in_words,
 )
 from tests.helpers import Raising, any_objects, as_lists, at
-from tests.naive import seeded
+from tests.naive import naive_free, seeded
 
 NONE = (None,) * 8
 
@@ -146,6 +147,50 @@ class Needed(unittest.TestCase, Raising):
         one = image([coded(SET, 1), at("d", 9), coded(TELL, 1), coded(0)])
         tell = talking_stands(one)[0][1]
         self.assertEqual(needed_sums(one, tell), ((9, 0, 1) + (0,) * 7,))
+
+    def naive_needed(self, one, stand, depth):
+        """The rows by which numbers are told behind a stand, by rows of truths of some length; the rows that are left.
+
+        What is held there is put in as numbers handed in, from 1001 on.
+        """
+        names = [p for p, _, _ in one.pieces()]
+        addresses = [(p, k) for p, kind, some in one.pieces() if kind == "data" for k in range(len(some))]
+        values = [("number", (0, ((("in", 1001 + index), 1),))) if mark is None else ("at",) + mark
+                  for index, mark in enumerate(stand[1])]
+        held = [("in", 1001 + index) for index, mark in enumerate(stand[1]) if mark is None]
+        begin = (stand[0], values[:8], dict(zip(addresses, values[8:])))
+        found = []
+        rows = [()]
+        for _ in range(depth):
+            newer = []
+            for row in rows:
+                events = naive_free(one, list(row), None, 100, begin)[0]
+                for event in events:
+                    if event[0] == "tell":
+                        parts = dict(event[1][1])
+                        found.append([event[1][0]] + [parts.pop(("piece", p), 0) for p in names]
+                                     + [parts.pop(unknown, 0) for unknown in held])
+                        if parts:
+                            found.append([1] + [0] * (len(names) + len(held)))
+                if events[-1] == ("wait",):
+                    newer += [row + (False,), row + (True,)]
+            rows = newer
+        return found, 1 + len(names) + len(held), rows
+
+    def test_beside_free_runs_from_there(self):
+        rng = seeded(82)
+        many = 0
+        for _ in range(50):
+            one = found_by_chance(rng)
+            for _, stand in talking_stands(one)[:4]:
+                if stand != ("silent",):
+                    rows, width, rest = self.naive_needed(one, stand, 5)
+                    needed = needed_sums(one, stand)
+                    self.assertEqual(rank(list(needed) + rows), len(needed))
+                    if not rest or rank(rows) == len(needed):
+                        self.assertEqual(needed, base_of(rows, width))
+                        many += len(needed) > 0
+        self.assertGreater(many, 30)
 
     def test_forms_hold_no_more_than_stands(self):
         rng = seeded(81)
