@@ -93,6 +93,13 @@ class Forms(unittest.TestCase, Raising):
             one = image(code)
             self.assertEqual(one_form(one), NaiveForm(one, {"c": 0, "d": 100}, 4, 4).form())
 
+    def test_units_as_they_come(self):
+        """Behind 0 it tells 0, 1, 2 .., behind 1 it tells 2, 3, ..: the second tell behind 0 comes ahead of the latter."""
+        one = image([coded(SET, 4), 1, coded(TAKE, 1), coded(ADD, 1, 1), coded(TELL, 1), coded(ADD, 1, 4), coded(GO, 0, 0, -2)])
+        self.assertEqual(one_form(one), (
+            ("take", (1,), 1, (), (((ONE, NO),), (((-1, 1), (2, 1)),))),
+            ("tell", (1,), 2, (0, 1), (((NO, ONE), ((-1, 1), (2, 1))),))))
+
     def test_data_words(self):
         words = [coded(SET, 5), at("d"), coded(TAKE, 1), coded(LOAD, 2, 5), coded(STORE, 1, 5), coded(TELL, 2),
                  coded(GO, 0, 0, -4)]
