@@ -58,6 +58,19 @@ INTERFACE = {
     "drafts": ["Draft(rows): __len__(), __eq__(other), rows(), branches(), offsets(choice), way(choice, index), "
                "fits(choice), grown(), all_fits(), many_fits(), least(), tight(), shrunk(), reasons(), "
                "are_reasons(thing), room(at), put(at, row), without(at), regrown(at, row), coded_words(p, choice)"],
+    "lots": ["lot_of(image, strides=None)", "is_layout(lot, thing)", "row_of(lot, order, begin=0)",
+             "end_of(lot, layout)"],
+    "rowends": ["ends(lot, begin=0)", "shows_ends(lot, begin, thing)", "shortest(lot, begin=0)", "nearest(lot, calls)"],
+    "holes": ["laid_in(lot, holes)", "filled(lot, holes)"],
+    "reaches": ["in_reach(lot, layout, reaches)", "least_places(lot, order, reaches, last)",
+                "climb(lot, order, reaches, last)", "shows_climb(lot, order, reaches, last, thing)",
+                "barring_ring(lot, order, reaches)", "orders_in_reach(lot, reaches, last)"],
+    "stubs": ["fewest_stubs(calls, rooms, reach)", "calls_apart(calls, rooms, reach)",
+              "are_stubs(calls, rooms, reach, thing)", "fewest_hops(calls, goals, rooms, reach)",
+              "way_of(calls, goals, rooms, reach, index)"],
+    "sumtexts": ["sum_text(one)"],
+    "assembling": ["assembled(text, far=None)", "listing(text, far=None)", "line_of(text, p, k, far=None)",
+                   "draft_of(text, p)"],
     "movenotes": ["to_note(image)", "shown_places(image)", "unseen(image, at, p)", "first_shown(image, p)"],
 }
 
