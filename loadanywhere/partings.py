@@ -60,10 +60,10 @@ class Search:
                 self.newer.append((longer, self.beside.ways_behind(node, answer), row, handed))
         return None
 
-    def go(self):
-        """Goes on from the start, answer by answer, until something parts or nothing is new."""
-        for row in self.beside.first_rows():
-            self.come(0, self.beside.first_ways(), row, 0)
+    def go(self, ways, rows):
+        """Goes on by ways with some rows, answer by answer, until something parts or nothing is new."""
+        for row in rows:
+            self.come(0, ways, row, 0)
         while self.newer and self.found is None:
             waiting = self.newer
             self.newer = []
@@ -154,7 +154,7 @@ def least_parting(one, other):
     check_lost([one, other])
     both = Beside([one, other])
     search = Search(both)
-    search.go()
+    search.go(both.first_ways(), both.first_rows())
     if search.found is None:
         return None
     answers = list(search.trails.row_of_answers(search.found))

@@ -71,6 +71,18 @@ INTERFACE = {
     "sumtexts": ["sum_text(one)"],
     "assembling": ["assembled(text, far=None)", "listing(text, far=None)", "line_of(text, p, k, far=None)",
                    "draft_of(text, p)"],
+    "textforms": ["written_out(text)", "rows_back(unit)"],
+    "lineup": ["came(line)", "whose(line)", "untold(line)", "linked(line)"],
+    "wantchains": ["chains(line)", "is_want_chain(line, thing)", "trimmed(line)"],
+    "deadparts": ["reached(unit, roots)", "struck(unit, roots)", "way_to(unit, roots, p)", "classes(unit)",
+                  "folded(unit)"],
+    "exchanges": ["Exchange(one, other, led): unseen(), why_not(at)"],
+    "runners": ["Runner(image, places): give(answers), undo(), again(), registers(), at(), words(), events(), "
+                "exchange(other, led, places), placing()"],
+    "houses": ["House(): put_source(n, text), put_line(n, things), put_image(n, line, root), drop(kind, n), "
+               "start(n, image, places), give(n, answers), run(n), placed(n), is_old(n), renew(n, led), unit(n), "
+               "linked(n), image(n), made(), needs(kind, n), tried(deeds, work), undo(), again(), count()"],
+    "housetexts": ["house_text(house)", "read_house(text)"],
     "movenotes": ["to_note(image)", "shown_places(image)", "unseen(image, at, p)", "first_shown(image, p)"],
 }
 
@@ -95,6 +107,13 @@ class Interface(unittest.TestCase):
                     called, bracket, parameters = method.partition("(")
                     self.assertIn(called, vars(thing))
                     self.assertEqual(parameters_of(vars(thing)[called]), bracket + parameters)
+
+
+    def test_all_files_are_there(self):
+        listed = {"errors", *INTERFACE}
+        self.assertEqual(len(listed), 44)
+        for file in listed:
+            importlib.import_module("loadanywhere." + file)
 
 
 class Kinds(unittest.TestCase):
