@@ -171,7 +171,7 @@ class Alike(unittest.TestCase, Raising):
         found = folded(unit=unit)
         self.assertEqual([p for p, _, _ in found.pieces()], ["main", "one", "helpa", "tab", "tac", "apart"])
         self.assertEqual(list(found.told().items()), [("lb", ("helpa", 0)), ("start", ("main", 0))])
-        self.assertEqual(found.word("main", 4), at("one"))
+        self.assertEqual(found.word("main", 5), at("one"))
         self.assertEqual(found.word("main", 2), at("one"))
         self.assertEqual(classes(found), [])
         self.assertEqual(folded(found), found)
