@@ -1,7 +1,7 @@
 """The rows of texts as they come, one behind the other: blocks, uses of macros, lets, and whose a label is."""
 
 from loadanywhere.errors import BadRow, NoLabel, NotAhead, NotFit, NotPlain, SameRow
-from loadanywhere.textlines import FORMS, LABEL, REGISTERS, USE, read_lines
+from loadanywhere.textlines import FORMS, LABEL, REGISTERS, read_lines
 from loadanywhere.textsums import HERE, ONE, Worth, worth_of_name, worth_of_terms
 
 # The scope of what stands in no macro and no again.
@@ -248,9 +248,10 @@ def come_words(coming, row, frame, lines):
     coming.sequence.append(item)
 
 
+# Labels and uses are called so by LABEL and USE; all rows that are not here bring words.
 ACTIONS = {
     "code": come_piece, "data": come_piece, "told": come_told, "let": come_let, "macro": come_macro,
-    "again": come_again, "when": come_when, LABEL: come_label, USE: come_use,
+    "again": come_again, "when": come_when, "label row": come_label, "use row": come_use,
 }
 
 

@@ -279,9 +279,10 @@ TEXTS = (
 
 LINES = (
     [("member", ("a", [])), ("library", [("b", []), ("c", [])])],
-    [("member", ("a", ["start"])), ("group", [[("b", [])], [("c", ["out"])]])],
+    [("member", ("a", ["start"])), ("group", [[("b", [])], [("c", [])]])],
     [("member", ("a", [])), ("member", ("b", [])), ("member", ("c", []))],
     [("library", [("c", [])]), ("member", ("a", ["out"])), ("library", [("b", []), ("d", [])])],
+    [("member", ("a", ["start"])), ("group", [[("b", [])], [("c", ["out"])]])],
     [("member", ("a", [])), ("member", ("a", []))], [("member", ("b", ["nowhere"]))], [], [("group", [])],
     [("member", ("a", ["work", "out"]))],
 )

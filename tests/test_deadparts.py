@@ -191,6 +191,11 @@ class Alike(unittest.TestCase, Raising):
         chain[3] = ("d", "code", [coded(15), at("d", 1), coded(0)])
         self.assertEqual(classes(Unit(chain)), [])
         self.assertEqual(classes(Unit([])), [])
+        # In whatever order the names of their pieces stand.
+        unit = Unit([("m", "code", [(0, [(("piece", "aa"), 1), (("piece", "dd"), 1)])]), ("dd", "data", [1]),
+                     ("n", "code", [(0, [(("piece", "zz"), 1), (("piece", "dd"), 1)])]), ("aa", "code", [5]),
+                     ("zz", "code", [5])])
+        self.assertEqual(classes(unit), [["m", "n"], ["aa", "zz"]])
         self.assertEqual(classes(Unit([("a", "code", []), ("b", "data", []), ("c", "code", [])])), [["a", "c"]])
 
     def test_multiples_of_a_heap_are_added_up(self):

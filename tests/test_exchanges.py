@@ -69,9 +69,10 @@ class Made(unittest.TestCase, Raising):
                 self.assert_raises_with(BadLed, {"address": None}, Exchange, SUMMING, SUMMING, thing)
             self.assert_raises_with(BadLed, {"address": ("main", 1)}, Exchange, SUMMING, SUMMING,
                                     {("main", 0): ("main", 1), ("main", 1): thing, 5: 5})
-        for key in (("main", 5), ("main", -1), ("mai", 0), "main", 5, None, ("main",), ("main", 0, 0), (("main", 0),), True):
+        for key in (("main", 5), ("main", -1), ("mai", 0), "main", 5, None, ("main",), ("main", 0, 0), (("main", 0),), True,
+                    ("main", True)):
             self.assert_raises_with(BadLed, {"address": key}, Exchange, SUMMING, SUMMING,
-                                    {("main", 0): ("main", 1), key: ("main", 1), ("main", 1): 5})
+                                    {("main", 0): ("main", 1), key: ("main", 1), ("main", 2): 5})
         # Data pieces are led nowhere; worths are addresses of the other image.
         for key, worth in ((("tab", 0), ("main", 0)), (("main", 0), ("tab", 0)), (("main", 0), ("main", 99)),
                            (("main", 0), ("main", False))):

@@ -1,5 +1,6 @@
 """[93], [94], [95], [97], [98]: houses."""
 
+import copy
 import unittest
 
 from loadanywhere.assembling import assembled
@@ -544,7 +545,7 @@ class Undone(unittest.TestCase, Raising):
         house.give("r", answers)
         house.renew("r", led)
         places.clear(), answers.clear(), led.clear()
-        held = (house.run("r"), house.placed("r"), house.needs("run", "r"), house.made())
+        held = copy.deepcopy((house.run("r"), house.placed("r"), house.needs("run", "r"), house.made()))
         for thing in (house.run("r"), house.placed("r"), house.needs("run", "r"), house.made()):
             thing.clear()
         self.assertEqual((house.run("r"), house.placed("r"), house.needs("run", "r")), held[:3])

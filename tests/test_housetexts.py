@@ -58,7 +58,7 @@ class Told(unittest.TestCase, Raising):
 
     def test_renewed(self):
         house = begun()
-        for n in ("s", "r", "t"):
+        for n in ("t", "r", "s"):
             house.start(n, "i", PLACES)
         house.put_source("b", SLOW)
         for n in ("t", "s"):

@@ -1,14 +1,13 @@
 """[92]: plain runs whose image is exchanged while they run."""
 
+import copy
 import unittest
 
-from loadanywhere.assembling import assembled
 from loadanywhere.errors import BadAnswer, BadLed, Ended, HeldBack, NoDeed, NoPlace, Over, UnlikeData, WordError
 from loadanywhere.exchanges import Exchange
 from loadanywhere.images import Image, laid
 from loadanywhere.plainruns import Machine
 from loadanywhere.runners import Runner
-from loadanywhere.units import image_of
 from loadanywhere.words import coded
 from tests.helpers import Raising, any_objects, as_lists
 from tests.naive import naive_free, random_image, random_placing, seeded, sum_of_value, worth
@@ -201,6 +200,21 @@ class Exchanged(unittest.TestCase, Raising):
             runner.give(["a"])
         self.assertEqual(runner.again(), counts[3])
 
+    def test_words_that_are_stored_are_taken_back(self):
+        one = image("set r5 tab", "la:", "take r1", "store r1 r5 0", "goany la", "data tab", "word 3")
+        runner = Runner(one, {"main": 0, "tab": 50})
+        runner.give([7])
+        self.assertEqual(runner.words()[50], 7)
+        runner.undo()
+        self.assertEqual(runner.words()[50], 3)
+        runner.exchange(one, all_led(one, one), {"main": 100})
+        runner.give([8, 9])
+        self.assertEqual(runner.words()[50], 9)
+        runner.undo()
+        self.assertEqual(runner.words()[50], 3)
+        runner.undo()
+        self.assertEqual((runner.words()[50], runner.placing()), (3, {"main": 0, "tab": 50}))
+
     def test_beside_free_runs(self):
         rng = seeded(451)
         exchanges = 0
@@ -347,6 +361,13 @@ class Refusals(unittest.TestCase, Raising):
         self.assert_raises_with(HeldBack, {"where": "at"}, runner.exchange, one, all_led(one, one), {"main": 0})
         runner.undo()
         runner.exchange(one, all_led(one, one), {"main": 0})
+        # Lost behind a yes that leads to a number.
+        one = Image([("c", "code", [coded(4), 7, coded(0), coded(5, 0, 0, -3)])], ("c", 0))
+        for answer, right in ((True, HeldBack), (False, Ended)):
+            runner = Runner(one, {"c": 7})
+            runner.give([answer])
+            with self.assertRaises(right):
+                runner.exchange(one, all_led(one, one), {"c": 0})
         # Lost just where it waits: by its sum the word there is no right code word.
         strange = Image([("c", "code", [(1 - 5, [(("piece", "c"), 1)]), coded(0)])], ("c", 0))
         runner = Runner(strange, {"c": 5})
@@ -365,7 +386,7 @@ class Refusals(unittest.TestCase, Raising):
         self.runner.exchange(self.other, led, places)
         led.clear()
         places["x"] = 5
-        before = state_of(self.runner)
+        before = copy.deepcopy(state_of(self.runner))
         for thing in (self.runner.words(), self.runner.placing()):
             thing.clear()
         self.runner.events().append(5)

@@ -3,7 +3,9 @@
 import unittest
 
 from loadanywhere.assembling import assembled, draft_of, line_of, listing
-from loadanywhere.errors import BadFar, BadRow, BadText, NoLabel, NoPiece, NotAhead, NotFit, NotPlain, NoWord, SameRow, TooFar
+from loadanywhere.errors import (
+    BadFar, BadRow, BadText, NoLabel, NoPiece, NotAhead, NotFit, NotPlain, SameRow, TooFar,
+)
 from tests.helpers import Raising, any_objects
 from tests.naive import seeded
 from tests.texts import SHAPES, Naive, bent_text, random_text

@@ -4,7 +4,7 @@ import unittest
 
 from loadanywhere.assembling import assembled, draft_of
 from loadanywhere.errors import (
-    BadRow, BadText, Clash, NoLabel, NotAhead, NotFit, NotPlain, SameRow, TooFar, WordError,
+    BadRow, BadText, Clash, NoLabel, NotAhead, NotFit, NotPlain, SameRow, WordError,
 )
 from loadanywhere.textforms import rows_back, written_out
 from loadanywhere.units import Unit, bound

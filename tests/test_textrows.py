@@ -242,7 +242,7 @@ class Macros(unittest.TestCase, Raising):
         self.assertEqual(words_of(text, "d"), [*sums(1, 1), at("d", 1), at("d", 0), *sums(1, 1), at("d", 5), sum_of(1),
                                                at("d", 7), at("d", 0), at("d", 4), named("lc"), named("lx")])
         self.assertEqual(assembled(text).told(), {"la": ("d", 0), "lb": ("d", 4)})
-        for wrong in ("in r1", "in 5", "in 2*la", "in -la", "in la+0", "in 0*la", "in 5+la", "in stop", "in 1*when", "out r1", "out la-la"):
+        for wrong in ("in r1", "in 5", "in 1", "in 2*la", "in -la", "in la+0", "in 0*la", "in 5+la", "in stop", "in 1*when", "out r1", "out la-la"):
             text = lines("macro in a", "a:", "end", "macro out b", "in b", "end", "data d", wrong)
             with self.assertRaises(NotFit, msg=wrong) as caught:
                 assembled(text)
