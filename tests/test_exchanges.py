@@ -9,6 +9,7 @@ from loadanywhere.exchanges import Exchange
 from loadanywhere.images import Image
 from loadanywhere.movetables import points
 from loadanywhere.units import image_of
+from loadanywhere.words import coded
 from tests.helpers import Raising, any_objects, as_lists, has_lists_within
 from tests.naive import seeded
 from tests.swaps import (
@@ -171,6 +172,43 @@ class WhyNot(unittest.TestCase, Raising):
         other = image("la:", "take r1", "tell r2", "goany la", "data tab", "word 5")
         same = image("la:", "take r1", "tell r3", "set r2 tab", "goany la", "data tab", "word 5")
         self.assertEqual(Exchange(same, other, {("main", 0): ("main", 0)}).why_not(("main", 0)), ("parts", (), 1))
+
+    def test_the_least_of_several_stands_by_one_row(self):
+        # The first wait by the row () is at another stand than all others, by what r4 holds.
+        one = image("set r4 lx", "la:", "take r1", "set r4 ly", "goany la", "lx:", "stop", "ly:", "stop")
+        take, lx, ly = ("main", 2), ("main", 6), ("main", 7)
+        other = image("jump r4", "lx:", "ask bad", "goany lx", "bad:", "jump r0", "ly:", "jump r0", "told lx", "told ly")
+        led = {take: ("main", 0), lx: ("main", 1), ly: ("main", 4)}
+        self.assertEqual(Exchange(one, other, led).why_not(take), ("lost", (), ()))
+        self.assertEqual(Exchange(one, other, {**led, ly: ("main", 1)}).why_not(take), ("lost", (), (True,)))
+        other = image("jump r4", "lx:", "take r1", "take r1", "ly:", "tell r1", "stop")
+        led = {take: ("main", 0), lx: ("main", 1), ly: ("main", 3)}
+        self.assertEqual(Exchange(one, other, led).why_not(take), ("parts", (), 0))
+        self.assertEqual(Exchange(one, other, {**led, ly: ("main", 1)}).why_not(take), ("parts", (), 2))
+        self.assertEqual(Exchange(one, other, {**led, lx: ("main", 3), ly: ("main", 2)}).why_not(take), ("parts", (), 0))
+
+    def test_what_is_told(self):
+        # Plain numbers, numbers handed in later or ahead, places of data pieces, and of code pieces that go.
+        def why(first, second, ahead="copy r0 r0"):
+            one, other = [image("set r5 tab", ahead, "la:", "take r1", row, "tell r3", "goany la", "data tab", "word 0", "code x", "stop")
+                          for row in (first, second)]
+            return Exchange(one, other, {key: key for key in all_led(one, other)}).why_not(points(one)[0])
+        self.assertEqual(why("set r3 1", "set r3 2"), ("parts", (), 1))
+        self.assertIsNone(why("set r3 1", "set r3 2-1"))
+        self.assertEqual(why("copy r3 r1", "copy r3 r0"), ("parts", (), 1))
+        self.assertEqual(why("add r2 r1", "copy r2 r1", "copy r3 r2"), None)
+        self.assertIsNone(why("set r3 tab+1", "set r3 tab+1"))
+        self.assertEqual(why("set r3 tab+1", "set r3 tab"), ("parts", (), 1))
+        self.assertEqual(why("set r3 x", "set r3 x"), ("parts", (), 1))
+        self.assertEqual(why("copy r3 r2", "copy r3 r2", "set r2 2*x"), None)
+        self.assertEqual(why("set r3 2*x", "set r3 2*x"), ("parts", (), 1))
+        self.assertEqual(why("copy r3 r2", "copy r3 r2", "set r2 x"), ("parts", (), 1))
+
+    def test_pieces_of_other_names(self):
+        other = Image([("pc", "code", [0] * 3), ("pd", "code", [coded(1, 1), coded(10, 2, 1), coded(2, 2),
+                                                               coded(3, 0, 0, -3), coded(5, 0, 0, -4)])], ("pc", 0))
+        led = {("main", 0): ("pd", 0), ("main", 3): ("pd", 3)}
+        self.assertEqual(Exchange(SUMMING, other, led).unseen(), [("main", 0), ("main", 3)])
 
     def test_errors(self):
         for thing in any_objects() + [("main", 1), ("main", 5), ("main", -1), ["main", 2], ("mai", 0)]:
